@@ -1,0 +1,1 @@
+"""Unknowntables: and, or, not with unknown, all logics and what they promise."""
