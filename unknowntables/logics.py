@@ -26,7 +26,7 @@ TOLD_LOGICS = {
 
 def check_answer(value):
     """Raise BadAnswer if a value is no answer."""
-    # Not by "in" of a string or a dict: "" and "ft" are no answers, and a list may be asked for.
+    # Not asked of a string, in which "" and "ft" lie, nor of a dict, which cannot be asked for a list.
     if value not in ANSWERS:
         raise BadAnswer("an answer is f, t or u")
 
