@@ -133,3 +133,37 @@ def reckoned_counterexample(text, promise):
     for part in PARTS[promise][1]:
         broken |= breaking_rows(text, promise, part)
     return min(broken) if broken else None
+
+
+def signs_of(formula):
+    """A formula in Python's own signs: its letters as they are, its answers as names of their own."""
+    if isinstance(formula, str):
+        return formula if formula in "abcde" else f"_{formula}"
+    if formula[0] == "not":
+        return f"(~{signs_of(formula[1])})"
+    return f"({signs_of(formula[1])} {'&' if formula[0] == 'and' else '|'} {signs_of(formula[2])})"
+
+
+def reckoned_value(text, formula, answers):
+    """The answer of a formula by a logic, by a dict of its letters' answers."""
+    terms = {letter: Term(text, answer) for letter, answer in answers.items()}
+    terms.update({f"_{answer}": Term(text, answer) for answer in "ftu"})
+    return eval(signs_of(formula), {}, terms).answer
+
+
+def usual_value(formula, answers):
+    """The answer of a formula, all known, by Python's own and, or, not."""
+    if isinstance(formula, str):
+        return answers.get(formula, formula) == "t"
+    parts = [usual_value(part, answers) for part in formula[1:]]
+    return not parts[0] if formula[0] == "not" else all(parts) if formula[0] == "and" else any(parts)
+
+
+def reckoned_filled(formula, answers):
+    """The answer of a formula for all ways to fill the unknown letters, "u" if that is not one."""
+    unknown = [letter for letter, answer in answers.items() if answer == "u"]
+    found = {
+        usual_value(formula, {**answers, **dict(zip(unknown, filling))})
+        for filling in product("ft", repeat=len(unknown))
+    }
+    return "u" if len(found) == 2 else "ft"[found.pop()]

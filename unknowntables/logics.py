@@ -15,6 +15,9 @@ USUAL_AND = ("f", "f", "f", "t")
 USUAL_OR = ("f", "t", "t", "t")
 USUAL_NOT = ("t", "f")
 
+# What an answer may be replaced by if it has to be known.
+FILLED = {"f": ("f",), "t": ("t",), "u": ("f", "t")}
+
 TOLD_LOGICS = {
     "as false": "fffffffttft",
     "as true": "ffttttttttf",
@@ -40,19 +43,24 @@ def check_logic(value):
             raise BadLogic(index)
 
 
-def and_table(logic):
-    """The answers of and, for all pairs of answers."""
-    return dict(zip(PAIRS, USUAL_AND + logic[:5]))
+def and_table(told):
+    """The answers of and for all pairs, or for the first of them if told lacks the last ones."""
+    return dict(zip(PAIRS, USUAL_AND + told))
 
 
-def or_table(logic):
-    """The answers of or, for all pairs of answers."""
-    return dict(zip(PAIRS, USUAL_OR + logic[5:10]))
+def or_table(told):
+    """The answers of or for all pairs, or for the first of them if told lacks the last ones."""
+    return dict(zip(PAIRS, USUAL_OR + told))
 
 
-def not_table(logic):
-    """The answers of not, for all answers."""
-    return dict(zip(ANSWERS, USUAL_NOT + logic[10:]))
+def not_table(told):
+    """The answers of not for all answers, or for the known ones if told is empty."""
+    return dict(zip(ANSWERS, USUAL_NOT + told))
+
+
+def tables_of(logic):
+    """The tables of and, or, not of a logic."""
+    return and_table(logic[:5]), or_table(logic[5:10]), not_table(logic[10:])
 
 
 def all_rows(length):
@@ -63,12 +71,26 @@ def all_rows(length):
     return rows
 
 
+def fillings(row):
+    """All rows that a row becomes if its unknown answers are replaced by known ones."""
+    rows = [()]
+    for answer in row:
+        rows = [(*begun, known) for begun in rows for known in FILLED[answer]]
+    return rows
+
+
+def agreed(answers):
+    """The answer that all of some answers are, u if they are not one."""
+    return answers[0] if answers.count(answers[0]) == len(answers) else "u"
+
+
 def conj(logic, one, other):
     """The answer of one and other."""
     check_logic(logic)
     check_answer(one)
     check_answer(other)
-    return and_table(logic)[(one, other)]
+    ands, _, _ = tables_of(logic)
+    return ands[(one, other)]
 
 
 def disj(logic, one, other):
@@ -76,14 +98,16 @@ def disj(logic, one, other):
     check_logic(logic)
     check_answer(one)
     check_answer(other)
-    return or_table(logic)[(one, other)]
+    _, ors, _ = tables_of(logic)
+    return ors[(one, other)]
 
 
 def neg(logic, one):
     """The answer of not one."""
     check_logic(logic)
     check_answer(one)
-    return not_table(logic)[one]
+    _, _, nots = tables_of(logic)
+    return nots[one]
 
 
 def names():

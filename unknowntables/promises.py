@@ -1,11 +1,10 @@
 """The fourteen promises, and which of them a logic keeps (points 5 and 6)."""
 
 from unknowntables.errors import BadPromise
-from unknowntables.logics import all_rows, and_table, check_logic, not_table, or_table
+from unknowntables.logics import agreed, all_rows, check_logic, fillings, tables_of
 
-# What an answer may be replaced by, if it is unknown: left as it is or not, and in any case.
+# What an answer may be replaced by, itself among it.
 GROWN = {"f": ("f",), "t": ("t",), "u": ("f", "t", "u")}
-FILLED = {"f": ("f",), "t": ("t",), "u": ("f", "t")}
 
 
 def holds_absorb(tables, row):
@@ -92,8 +91,8 @@ def holds_spread(tables, row):
 
 def tells(table, a, b):
     """Whether a table gives the answer of all ways to fill its arguments, if that is one answer."""
-    answers = [table[(x, y)] for x in FILLED[a] for y in FILLED[b]]
-    return answers.count(answers[0]) < len(answers) or table[(a, b)] == answers[0]
+    answer = agreed([table[filling] for filling in fillings((a, b))])
+    return answer == "u" or table[(a, b)] == answer
 
 
 def holds_told(tables, row):
@@ -164,12 +163,22 @@ def check_promise(value):
         raise BadPromise("no promise has this name")
 
 
+def rows_of(promise):
+    """All rows that a promise is about, ascending."""
+    return all_rows(LENGTHS[promise])
+
+
+def holds_at(tables, promise, row):
+    """Whether a promise holds at a row by tables of and, or, not."""
+    holds = HOLDS[promise]
+    return holds(tables, row)
+
+
 def least_break(logic, promise):
     """The least row at which a logic breaks a promise, None if there is none."""
-    tables = (and_table(logic), or_table(logic), not_table(logic))
-    holds = HOLDS[promise]
-    for row in all_rows(LENGTHS[promise]):
-        if not holds(tables, row):
+    tables = tables_of(logic)
+    for row in rows_of(promise):
+        if not holds_at(tables, promise, row):
             return row
     return None
 
